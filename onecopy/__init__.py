@@ -1,0 +1,1 @@
+"""Onecopy: a store that keeps all its past in place."""

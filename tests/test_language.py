@@ -1,0 +1,153 @@
+"""The rules of LANGUAGE.md that a plain reading of the files can check, and the names of the interface."""
+
+import ast
+import builtins
+import unittest
+from pathlib import Path
+
+PACKAGE = Path(__file__).resolve().parent.parent / "onecopy"
+
+LIBRARY = {
+    "heapq": {"heappush", "heappop", "heapify", "heapreplace", "heappushpop"},
+    "math": {"gcd", "lcm", "isqrt", "comb", "perm", "factorial"},
+    "itertools": {"product", "combinations", "permutations", "chain", "accumulate", "pairwise", "islice",
+                  "zip_longest"},
+    "collections": {"defaultdict", "deque"},
+}
+
+CALLED = {
+    "len", "range", "enumerate", "zip", "min", "max", "sum", "abs", "sorted", "reversed", "int", "str", "bool",
+    "list", "tuple", "dict", "set", "isinstance", "ord", "repr", "any", "all", "divmod", "iter", "next", "super",
+}
+
+BARRED_NODES = (
+    ast.GeneratorExp, ast.Global, ast.AsyncFunctionDef, ast.AsyncFor, ast.AsyncWith, ast.Await, ast.Div,
+    ast.MatMult, ast.Import, ast.TryStar,
+)
+
+INTERFACE = {
+    "webs": {
+        "Web": ["arrows", "holders", "targets", "degree", "inner", "parts", "is_forest", "is_settled", "path",
+                "ring", "of_parents", "__eq__", "__contains__"],
+    },
+    "standings": {
+        "Standing": ["__eq__", "fresh", "blanks", "blank_of", "used", "is_short", "after", "answers"],
+    },
+}
+
+
+def files():
+    """The files of the package with their texts and their trees."""
+    found = []
+    for path in sorted(PACKAGE.glob("*.py")):
+        text = path.read_text(encoding="utf-8")
+        found.append((path.name, text, ast.parse(text)))
+    return found
+
+
+def nodes(tree, *kinds):
+    return [node for node in ast.walk(tree) if isinstance(node, kinds)]
+
+
+class LanguageTest(unittest.TestCase):
+    def test_nothing_but_python_files(self):
+        others = [path.name for path in PACKAGE.iterdir() if path.suffix != ".py" and path.name != "__pycache__"]
+        self.assertEqual(others, [])
+        self.assertTrue((PACKAGE / "__init__.py").exists())
+
+    def test_characters_and_sizes(self):
+        for name, text, _ in files():
+            lines = text.split("\n")
+            self.assertLessEqual(len(lines) - 1, 399, name)
+            for at, line in enumerate(lines, 1):
+                self.assertLessEqual(len(line), 120, f"{name}:{at}")
+                self.assertTrue(all(" " <= sign <= "~" for sign in line), f"{name}:{at}")
+
+    def test_functions_are_small(self):
+        for name, _, tree in files():
+            for node in nodes(tree, ast.FunctionDef):
+                self.assertLessEqual(node.end_lineno - node.lineno + 1, 40, f"{name} {node.name}")
+
+    def test_barred_statements(self):
+        for name, _, tree in files():
+            for node in nodes(tree, *BARRED_NODES):
+                self.fail(f"{name}:{node.lineno} {ast.dump(node)[:80]}")
+            for node in nodes(tree, ast.Constant):
+                self.assertNotIsInstance(node.value, (float, complex), f"{name}:{node.lineno}")
+
+    def test_imports(self):
+        own = {f"onecopy.{name[:-3]}" for name, _, _ in files()}
+        for name, _, tree in files():
+            for node in nodes(tree, ast.ImportFrom):
+                self.assertIn(node, tree.body, name)
+                self.assertEqual(node.level, 0, name)
+                words = {alias.name for alias in node.names}
+                if node.module in own:
+                    where = ast.parse((PACKAGE / f"{node.module[8:]}.py").read_text(encoding="utf-8"))
+                    self.assertLessEqual(words, self.defined(where), name)
+                else:
+                    self.assertLessEqual(words, LIBRARY.get(node.module, set()), f"{name} {node.module}")
+
+    def defined(self, tree):
+        names = {node.name for node in tree.body if isinstance(node, (ast.FunctionDef, ast.ClassDef))}
+        for node in tree.body:
+            if isinstance(node, ast.Assign):
+                names |= {target.id for target in node.targets}
+        return names
+
+    def test_imports_make_no_ring(self):
+        needs = {}
+        for name, _, tree in files():
+            modules = [node.module for node in nodes(tree, ast.ImportFrom)]
+            needs[f"onecopy.{name[:-3]}"] = {module for module in modules if module.startswith("onecopy.")}
+        while needs:
+            free = [module for module, wanted in needs.items() if not wanted & set(needs)]
+            self.assertTrue(free, f"a ring of imports: {sorted(needs)}")
+            for module in free:
+                del needs[module]
+
+    def test_module_level(self):
+        allowed = (ast.ImportFrom, ast.FunctionDef, ast.ClassDef, ast.Assign)
+        for name, _, tree in files():
+            for at, node in enumerate(tree.body):
+                is_docstring = at == 0 and isinstance(node, ast.Expr) and isinstance(node.value, ast.Constant)
+                self.assertTrue(is_docstring or isinstance(node, allowed), f"{name}:{node.lineno}")
+
+    def test_decorators(self):
+        for name, _, tree in files():
+            for node in nodes(tree, ast.FunctionDef, ast.ClassDef):
+                for decorator in node.decorator_list:
+                    plain = isinstance(decorator, ast.Name) and decorator.id in {
+                        "property", "classmethod", "staticmethod"}
+                    setter = isinstance(decorator, ast.Attribute) and decorator.attr == "setter"
+                    self.assertTrue(plain or setter, f"{name} {node.name}")
+
+    def test_builtins(self):
+        for name, _, tree in files():
+            stored = [node.id for node in nodes(tree, ast.Name) if isinstance(node.ctx, ast.Store)]
+            stored += [node.arg for node in nodes(tree, ast.arg)]
+            stored += [node.name for node in tree.body if isinstance(node, (ast.FunctionDef, ast.ClassDef))]
+            self.assertEqual([word for word in stored if hasattr(builtins, word)], [], name)
+            for node in nodes(tree, ast.Call):
+                if isinstance(node.func, ast.Name) and hasattr(builtins, node.func.id):
+                    self.assertIn(node.func.id, CALLED, f"{name}:{node.lineno}")
+
+    def test_sort_is_sorted(self):
+        for name, _, tree in files():
+            for node in nodes(tree, ast.Attribute):
+                self.assertNotEqual(node.attr, "sort", f"{name}:{node.lineno}")
+
+
+class InterfaceTest(unittest.TestCase):
+    def test_names_stand_in_their_files(self):
+        for module, words in INTERFACE.items():
+            tree = ast.parse((PACKAGE / f"{module}.py").read_text(encoding="utf-8"))
+            bodies = {node.name: node for node in tree.body if isinstance(node, (ast.FunctionDef, ast.ClassDef))}
+            for word, methods in words.items():
+                self.assertIn(word, bodies, module)
+                inside = [node.name for node in bodies[word].body if isinstance(node, ast.FunctionDef)]
+                self.assertLessEqual(set(methods), set(inside), f"{module}.{word}")
+
+
+if __name__ == "__main__":
+    unittest.main()
