@@ -56,6 +56,37 @@ def plain_trim(standing, lot):
     return rest
 
 
+def matches_all(standing, lot):
+    """Whether each pointer within the lot finds a line of its own, one pointer after the other (Kuhn's way)."""
+    slots = {page: [] for page in lot}
+
+    def place(arrow, tried):
+        for page in arrow:
+            if page not in tried:
+                tried.add(page)
+                if len(slots[page]) < standing.blank_of(page):
+                    slots[page].append(arrow)
+                    return True
+                for at, other in enumerate(slots[page]):
+                    if place(other, tried):
+                        slots[page][at] = arrow
+                        return True
+        return False
+
+    inside = set(lot)
+    return all(place(arrow, set()) for arrow in standing.web.arrows() if inside.issuperset(arrow))
+
+
+def trim_by_matching(standing, lot):
+    """Point 12 for webs in which not all lots can be gone through."""
+    rest = sorted(set(lot))
+    for page in sorted(set(lot)):
+        without = [other for other in rest if other != page]
+        if not matches_all(standing, without):
+            rest = without
+    return rest
+
+
 def all_standings(web, lines):
     """All standings of a web, ordered by their lists of blank lines."""
     return [Standing(web, lines, list(blank)) for blank in product(range(lines + 1), repeat=web.pages)]
@@ -104,6 +135,21 @@ def drawn_forest(draw, pages, two_way=0.4, cut=0.15):
 def drawn_standing(draw, web, lines):
     """A standing with any numbers of blank lines."""
     return Standing(web, lines, [draw.randint(0, lines) for _ in range(web.pages)])
+
+
+def tight_standing(draw, web):
+    """A standing that has just as many blank lines as it needs, in a drawn way."""
+    blank = [0] * web.pages
+    for arrow in web.arrows():
+        blank[draw.choice(arrow)] += 1
+    return Standing(web, max(blank + [1]), blank)
+
+
+def one_fewer(draw, standing):
+    """The standing with one blank line fewer on one page that has any."""
+    blank = standing.blanks()
+    blank[draw.choice([page for page, number in enumerate(blank) if number > 0])] -= 1
+    return Standing(standing.web, standing.lines, blank)
 
 
 def drawn(seed):

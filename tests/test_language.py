@@ -33,6 +33,13 @@ INTERFACE = {
     "standings": {
         "Standing": ["__eq__", "fresh", "blanks", "blank_of", "used", "is_short", "after", "answers"],
     },
+    "dealings": {"is_dealing": [], "deal": [], "holds_short": [], "trim": [], "slack": []},
+    "forests": {"tree_parents": [], "debts": [], "deepest": []},
+    "counts": {"count_dealable": [], "rank_of": [], "nth_dealable": []},
+    "ledger": {
+        "Ledger": ["enter_page", "leave_page", "set_pointer", "drop_pointer", "use_line", "blank_of", "owner_of",
+                   "page_list", "arrows", "as_standing"],
+    },
 }
 
 
@@ -146,6 +153,7 @@ class InterfaceTest(unittest.TestCase):
             for word, methods in words.items():
                 self.assertIn(word, bodies, module)
                 inside = [node.name for node in bodies[word].body if isinstance(node, ast.FunctionDef)]
+                self.assertIsInstance(bodies[word], ast.ClassDef if word[0].isupper() else ast.FunctionDef)
                 self.assertLessEqual(set(methods), set(inside), f"{module}.{word}")
 
 
