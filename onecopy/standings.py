@@ -4,7 +4,7 @@ from onecopy.errors import InvalidStanding, NoLine
 from onecopy.webs import check_pages
 
 
-def _lines_used(web, page, copied):
+def lines_used(web, page, copied):
     """The lines that an update of the page uses, for each page that uses any."""
     anew = set(copied)
     used = {}
@@ -60,7 +60,7 @@ class Standing:
     def after(self, page, *copied):
         """The standing after an update of the page in which the pages "copied" are copied."""
         check_pages(self.web, [page, *copied])
-        used = _lines_used(self.web, page, copied)
+        used = lines_used(self.web, page, copied)
         self._check_lines(used)
         blank = [number - used.get(at, 0) for at, number in enumerate(self._blank)]
         for target in copied:
@@ -75,7 +75,7 @@ class Standing:
 
     def _is_legal(self, page, copied):
         """Whether the update of the page is legal when these pages are copied."""
-        used = _lines_used(self.web, page, copied)
+        used = lines_used(self.web, page, copied)
         return all([used[at] <= self._blank[at] for at in used])
 
     def answers(self, page):

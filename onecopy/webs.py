@@ -1,6 +1,6 @@
 """Webs: pages that point to one another."""
 
-from onecopy.errors import InvalidPointer, NoPage
+from onecopy.errors import InvalidPointer, NoPage, TooFewLines
 
 
 def check_pages(web, pages):
@@ -14,6 +14,21 @@ def lot_of(web, lot):
     """The lot in ascending order without duplicates. Raises NoPage as check_pages does."""
     check_pages(web, lot)
     return sorted(set(lot))
+
+
+def crowded_page(web, lines):
+    """The least page whose degree is greater than the number of lines, or None."""
+    for page in range(web.pages):
+        if web.degree(page) > lines:
+            return page
+    return None
+
+
+def check_degrees(web, lines):
+    """Raise TooFewLines for the least page whose degree is greater than the number of lines."""
+    page = crowded_page(web, lines)
+    if page is not None:
+        raise TooFewLines(page)
 
 
 def _is_pointer(pages, holder, target):

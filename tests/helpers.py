@@ -3,6 +3,8 @@
 from itertools import combinations, product
 from random import Random
 
+from onecopy.dealings import deal
+from onecopy.errors import ShortLot
 from onecopy.standings import Standing
 from onecopy.webs import Web
 
@@ -87,6 +89,18 @@ def trim_by_matching(standing, lot):
     return rest
 
 
+def has_dealing(standing):
+    try:
+        deal(standing)
+    except ShortLot:
+        return False
+    return True
+
+
+def greatest_degree(web):
+    return max(web.degree(page) for page in range(web.pages))
+
+
 def all_standings(web, lines):
     """All standings of a web, ordered by their lists of blank lines."""
     return [Standing(web, lines, list(blank)) for blank in product(range(lines + 1), repeat=web.pages)]
@@ -130,6 +144,16 @@ def drawn_forest(draw, pages, two_way=0.4, cut=0.15):
                 pointers.append((ends[1], ends[0]))
     draw.shuffle(pointers)
     return Web(pages, pointers)
+
+
+def row_webs():
+    """Webs for long rows of updates: paths, rings, stars, trees and webs with many pointers."""
+    draw = drawn(53)
+    return [
+        Web.path(2), Web.path(7), Web.ring(2), Web.ring(3), Web.ring(8), Web.path(6, two_way=True),
+        two_way_star(5), Web.of_parents([None, 0, 0, 0, 0]), Web.of_parents([4, 4, 4, 4, None, 0, 0, 1]),
+        drawn_forest(draw, 12), drawn_web(draw, 6, 30), drawn_web(draw, 9, 25), drawn_web(draw, 12, 60),
+    ]
 
 
 def drawn_standing(draw, web, lines):

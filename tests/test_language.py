@@ -2,6 +2,7 @@
 
 import ast
 import builtins
+import re
 import unittest
 from pathlib import Path
 
@@ -40,6 +41,12 @@ INTERFACE = {
         "Ledger": ["enter_page", "leave_page", "set_pointer", "drop_pointer", "use_line", "blank_of", "owner_of",
                    "page_list", "arrows", "as_standing"],
     },
+    "keeper": {"Keeper": ["standing", "owners", "use_line"], "Recorder": ["use_line", "rows"], "copies_bound": []},
+    "foe": {
+        "Foe": ["standing", "has_won", "present_lot", "next_page", "bound", "take_reply"], "verdict": [],
+    },
+    "game": {"Game": ["value", "keepable", "safe_answers"]},
+    "cells": {"Disk": ["__len__", "cells", "read_cell", "write_cell", "allowance", "allow"]},
 }
 
 
@@ -138,6 +145,41 @@ class LanguageTest(unittest.TestCase):
             for node in nodes(tree, ast.Call):
                 if isinstance(node.func, ast.Name) and hasattr(builtins, node.func.id):
                     self.assertIn(node.func.id, CALLED, f"{name}:{node.lineno}")
+
+    def test_barred_names(self):
+        barred = re.compile(
+            r"_(wall|pe_|dcw_|enum_|cm_|twin_re_|lay_|law_|stub_|sre|WallAttr).*"
+            r"|(_cold|_tuplegetter|_outside|_record|_written_out|_member_names)[0-9_]*"
+            r"|register|mro|elements|open|input|law|version_info|with_traceback|add_note")
+        for name, _, tree in files():
+            words = [node.attr for node in nodes(tree, ast.Attribute)] + [node.id for node in nodes(tree, ast.Name)]
+            words += [node.name for node in nodes(tree, ast.FunctionDef, ast.ClassDef)]
+            words += [node.arg for node in nodes(tree, ast.arg, ast.keyword)]
+            self.assertEqual([word for word in words if barred.fullmatch(word)], [], name)
+
+    def test_no_name_of_a_class_or_an_import_is_used_anew(self):
+        for name, _, tree in files():
+            taken = {alias.name for node in nodes(tree, ast.ImportFrom) for alias in node.names}
+            taken |= {node.name for node in nodes(tree, ast.ClassDef)}
+            stored = {node.id for node in nodes(tree, ast.Name) if isinstance(node.ctx, ast.Store)}
+            stored |= {node.arg for node in nodes(tree, ast.arg)}
+            self.assertEqual(taken & stored, set(), name)
+
+    def test_no_name_is_a_method_and_an_attribute(self):
+        methods, attributes = set(), set()
+        for _, _, tree in files():
+            for node in nodes(tree, ast.ClassDef):
+                methods |= {row.name for row in node.body if isinstance(row, ast.FunctionDef)
+                            and not any(isinstance(one, ast.Attribute) for one in row.decorator_list)}
+            attributes |= {node.attr for node in nodes(tree, ast.Attribute) if isinstance(node.ctx, ast.Store)}
+        self.assertEqual(methods & attributes, {"allowance"})
+
+    def test_kept_zips(self):
+        for name, _, tree in files():
+            for node in nodes(tree, ast.Assign):
+                called = isinstance(node.value, ast.Call) and isinstance(node.value.func, ast.Name)
+                if called:
+                    self.assertNotIn(node.value.func.id, {"zip", "enumerate", "reversed", "range"}, name)
 
     def test_sort_is_sorted(self):
         for name, _, tree in files():

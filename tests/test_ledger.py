@@ -2,16 +2,15 @@
 
 import unittest
 
-from onecopy.dealings import deal
 from onecopy.errors import (
-    InvalidStanding, NoLine, NoPage, NoPointer, NoRoom, PageTaken, PointerTaken, ShortLot, StillPointed,
-    TooFewLines,
+    InvalidStanding, NoLine, NoPage, NoPointer, NoRoom, PageTaken, PointerTaken, StillPointed, TooFewLines,
 )
 from onecopy.ledger import Ledger
 from onecopy.standings import Standing
 from onecopy.webs import Web
 from tests.helpers import (
-    drawn, drawn_forest, drawn_web, is_dealing_plainly, matches_all, room, tight_standing, two_way_star,
+    drawn, drawn_forest, drawn_web, greatest_degree, has_dealing, is_dealing_plainly, matches_all, room, row_webs,
+    tight_standing,
 )
 
 
@@ -19,10 +18,6 @@ def told(ledger):
     """All that a ledger tells of itself."""
     return (ledger.lines, ledger.page_list(), ledger.arrows(), [ledger.blank_of(page) for page in ledger.page_list()],
             [ledger.owner_of(*arrow) for arrow in ledger.arrows()])
-
-
-def greatest_degree(web):
-    return max(web.degree(page) for page in range(web.pages))
 
 
 def ledger_of(standing):
@@ -33,14 +28,6 @@ def ledger_of(standing):
     for holder, target in standing.web.arrows():
         ledger.set_pointer(holder, target)
     return ledger
-
-
-def has_dealing(standing):
-    try:
-        deal(standing)
-    except ShortLot:
-        return False
-    return True
 
 
 class LedgerCase(unittest.TestCase):
@@ -343,14 +330,6 @@ class UpdatesTest(LedgerCase):
 
 
 class LongRowsTest(LedgerCase):
-    def webs(self):
-        draw = drawn(53)
-        return [
-            Web.path(2), Web.path(7), Web.ring(2), Web.ring(3), Web.ring(8), Web.path(6, two_way=True),
-            two_way_star(5), Web.of_parents([None, 0, 0, 0, 0]), Web.of_parents([4, 4, 4, 4, None, 0, 0, 1]),
-            drawn_forest(draw, 12), drawn_web(draw, 6, 30), drawn_web(draw, 9, 25), drawn_web(draw, 12, 60),
-        ]
-
     def row(self, ledger, updates, choose):
         """A long row of updates. Returns the number of copies."""
         return sum(len(self.check_update(ledger, choose(ledger))) for _ in range(updates))
@@ -364,7 +343,7 @@ class LongRowsTest(LedgerCase):
         ]
 
     def test_as_many_lines_as_the_greatest_degree(self):
-        for web in self.webs():
+        for web in row_webs():
             lines = greatest_degree(web)
             for choose in self.choices(web):
                 copies = self.row(ledger_of(Standing.fresh(web, lines)), 120, choose)
@@ -372,7 +351,7 @@ class LongRowsTest(LedgerCase):
 
     def test_number_of_copies(self):
         draw = drawn(55)
-        for web in self.webs():
+        for web in row_webs():
             degree = greatest_degree(web)
             for lines in [degree, degree + 1, degree + 5]:
                 tight = Standing(web, lines, tight_standing(draw, web).blanks())
