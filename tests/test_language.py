@@ -47,6 +47,18 @@ INTERFACE = {
     },
     "game": {"Game": ["value", "keepable", "safe_answers"]},
     "cells": {"Disk": ["__len__", "cells", "read_cell", "write_cell", "allowance", "allow"]},
+    "chest": {
+        "Chest": ["begun", "today", "days", "commit_day", "next_address", "live", "blank_of", "entry_list",
+                  "entry_address", "look", "stored", "reached"],
+    },
+    "engine": {
+        "Engine": ["resumed", "today", "standing", "days", "entries", "write_page", "read", "follow", "trail",
+                   "history", "changed", "copy_days", "fork"],
+    },
+    "stretches": {"Stretch": ["lift", "__add__", "__eq__", "is_keepable"], "parting": []},
+    "chains": {
+        "heights": [], "is_keepable_chain": [], "chain_answer": [], "attack_row": [], "count_chains": [],
+    },
 }
 
 
