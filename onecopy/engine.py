@@ -157,7 +157,7 @@ class Engine:
         return [*found, (address, self.chest.look(address, day))]
 
     def _texts_on(self, day):
-        """The texts of all pages on the readable day, each read along a shortest path."""
+        """The texts of all pages on the day, each read along a shortest path. Raises NoDay."""
         shown = {}
         for page, before in self._before.items():
             if before is None:
@@ -179,8 +179,6 @@ class Engine:
 
     def changed(self, early, late):
         """The pages whose texts differ on the two days, each as (page, text on the first, text on the second)."""
-        for day in [early, late]:
-            self.chest.check_day(day)
         before = self._texts_on(early)
         after = self._texts_on(late)
         return [(page, before[page], after[page]) for page in range(self.web.pages) if before[page] != after[page]]
@@ -192,5 +190,4 @@ class Engine:
 
     def fork(self, day):
         """A new engine that begins with the texts of the day."""
-        self.chest.check_day(day)
         return Engine(self.web, self.chest.lines, self._texts_on(day), self._entries)

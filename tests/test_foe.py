@@ -74,7 +74,7 @@ class FoeCase(unittest.TestCase):
         return caught.exception
 
     def told(self, foe):
-        return (foe.standing.blanks(), foe.present_lot(), foe.next_page(), foe.bound(), foe.has_won)
+        return (foe.standing.blanks(), tuple(foe.present_lot()), foe.next_page(), foe.bound(), foe.has_won)
 
     def check(self, foe, trimming=plain_trim):
         """Point 24 for the present standing. Returns the legal replies."""
