@@ -1,6 +1,7 @@
 """Points 29 to 32 and 37 (of commit_day) and the interface of onecopy.chest."""
 
 import unittest
+from copy import deepcopy
 
 from onecopy.cells import Disk
 from onecopy.chest import Chest
@@ -119,11 +120,11 @@ class ChestCase(unittest.TestCase):
                     leads[number, day] = chest.entry_address(number, day)
                 except NoEntry:
                     leads[number, day] = None
-        return (
+        return deepcopy((
             chest.lines, chest.today, days, chest.next_address(), stored, entries, leads,
             [(page, chest.live(page), chest.blank_of(page)) for page in sorted({page for _, page, _ in stored})],
             [chest.look(address, day) for address, _, _ in stored for day in range(chest.today + 2)],
-            [chest.reached(day) for day in days])
+            [chest.reached(day) for day in days]))
 
     def check(self, chest, plain):
         """The chest tells what the plain one tells, and a chest made anew does, too."""

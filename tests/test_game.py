@@ -1,6 +1,7 @@
 """Points 8 and 27 and the interface of onecopy.game."""
 
 import unittest
+from copy import deepcopy
 from itertools import combinations, product
 
 from onecopy.errors import InvalidStanding, NoLine, NoPage, TooMany
@@ -192,7 +193,7 @@ class ErrorsTest(GameCase):
     def test_lists_are_new(self):
         game = Game(Web.path(2), 1)
         blank = [1, 0]
-        told = [game.value(blank), game.keepable(), game.safe_answers(blank, 1)]
+        told = deepcopy([game.value(blank), game.keepable(), game.safe_answers(blank, 1)])
         game.keepable().clear()
         game.keepable()[0].clear()
         game.safe_answers(blank, 1).clear()

@@ -88,7 +88,7 @@ class LiftTest(StretchCase):
     def test_lists_are_copied(self):
         blank = [1, 0]
         stretch = Stretch(blank, 2)
-        told = stretch.lift()
+        told = list(stretch.lift())
         blank.append(0)
         stretch.lift().clear()
         self.assertEqual(stretch.lift(), told)
