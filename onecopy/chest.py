@@ -2,7 +2,8 @@
 
 What the cells hold:
 - cell 0: (lines, last finished day);
-- cell 1: (days, first): these days and all days from the first one on are readable;
+- cell 1: (days, day of the last sweep): these days and all days from that of the sweep on are readable, or
+  all days if there was no sweep (None);
 - a record: (page, day, text, links, entry, notes). The last record of a day has all notes of the day, as
   the tuples (index of the line, change, links), so that a stopped day can be completed. Others have None;
 - a line: (day, change, links).
@@ -11,6 +12,11 @@ What the cells hold:
 from onecopy.errors import NoCopy, NoDay, NoEntry, NoLine, NoPage
 
 FIRST_ADDRESS = 2
+
+
+def record_places(disk, lines):
+    """The indexes of the cells of the disk that have room for a record."""
+    return list(range(FIRST_ADDRESS, len(disk), lines + 1))
 
 
 def _kept_links(links):
@@ -50,14 +56,7 @@ class Chest:
     def __init__(self, disk):
         self.disk = disk
         self.lines, self._today = disk.read_cell(0)
-        # For each stored copy its page and its day, for each page its live copy, and for each entry
-        # number the days and addresses of its copies, all in the order of the addresses.
-        self._copies = {}
-        self._live = {}
-        self._entered = {}
-        for address in range(FIRST_ADDRESS, len(disk), self.lines + 1):
-            if disk.read_cell(address) is not None:
-                self._take_in(address)
+        self._take_in_all()
 
     @classmethod
     def begun(cls, disk, lines, fresh):
@@ -66,9 +65,20 @@ class Chest:
         for content in _contents_of(0, fresh, ()):
             disk.write_cell(address, content)
             address += lines + 1
-        disk.write_cell(1, ((), 0))
+        disk.write_cell(1, ((), None))
         disk.write_cell(0, (lines, 0))
         return cls(disk)
+
+    def _take_in_all(self):
+        """Take all stored copies into the tables of this object."""
+        # For each stored copy its page and its day, for each page its live copy, and for each entry
+        # number the days and addresses of its copies, all in the order of the addresses.
+        self._copies = {}
+        self._live = {}
+        self._entered = {}
+        for address in record_places(self.disk, self.lines):
+            if self.disk.read_cell(address) is not None:
+                self._take_in(address)
 
     def _take_in(self, address):
         """Take the copy at the address, the last one so far, into the tables of this object."""
@@ -83,14 +93,19 @@ class Chest:
         """The last finished day."""
         return self._today
 
+    def _readable(self):
+        """The readable days before the last sweep, and the day from which on all days are readable."""
+        kept, swept = self.disk.read_cell(1)
+        return kept, 0 if swept is None else swept
+
     def days(self):
         """The readable days, ascending."""
-        kept, first = self.disk.read_cell(1)
+        kept, first = self._readable()
         return list(kept) + list(range(first, self._today + 1))
 
     def is_readable(self, day):
         """Whether the day is readable."""
-        kept, first = self.disk.read_cell(1)
+        kept, first = self._readable()
         return first <= day <= self._today or day in kept
 
     def check_day(self, day):
@@ -206,3 +221,34 @@ class Chest:
                 links = self.look(address, day)[3]
                 waiting.extend([linked for _, linked in links])
         return sorted(list(found))
+
+    def sweep_to(self, days):
+        """Leave only these days, each of them readable, and the present one readable.
+
+        Copies that none of them reaches are removed. Returns the number of the removed copies.
+        """
+        kept = sorted({day for day in days if day != self._today})
+        self.disk.write_cell(1, (tuple(kept), self._today))
+        return self.remove_unreached()
+
+    def remove_unreached(self):
+        """Remove what the last sweep has not removed yet. Returns the number of the removed copies."""
+        removed = self._unreached()
+        for address in removed:
+            # The record comes last: as long as it is there, a stopped sweep can be completed.
+            for index in range(address + self.lines, address - 1, -1):
+                if self.disk.read_cell(index) is not None:
+                    self.disk.write_cell(index, None)
+        self._take_in_all()
+        return len(removed)
+
+    def _unreached(self):
+        """The copies that were there on the day of the last sweep and that no readable day reaches."""
+        _, swept = self.disk.read_cell(1)
+        left = {address: True for address, (_, day) in self._copies.items() if swept is not None and day <= swept}
+        for day in self.days():
+            # Behind the day of a finished sweep nothing is left, and the later days need not be read.
+            if left:
+                for address in self.reached(day):
+                    left.pop(address, None)
+        return sorted(list(left))

@@ -25,16 +25,16 @@ class PlainChest:
     """Points 29 to 32 without cells: all copies as dicts, in the order of their addresses."""
 
     def __init__(self, lines, fresh):
-        self.lines, self.day, self.copies = lines, 0, []
+        self.lines, self.day, self.copies, self.next = lines, 0, [], 2
         self.add(fresh)
 
     def add(self, fresh):
         added = []
         for page, text, links, entry in fresh:
-            address = self.copies[-1]["address"] + self.lines + 1 if self.copies else 2
-            self.copies.append({"address": address, "page": page, "day": self.day, "text": text,
+            self.copies.append({"address": self.next, "page": page, "day": self.day, "text": text,
                                 "links": list(links), "entry": entry, "lines": []})
-            added.append(address)
+            added.append(self.next)
+            self.next += self.lines + 1
         return added
 
     def commit(self, fresh, notes):
@@ -76,7 +76,7 @@ class PlainChest:
 
 def drawn_day(draw, plain, pages):
     """New copies and notes that the next day may have."""
-    start = plain.copies[-1]["address"] + plain.lines + 1
+    start = plain.next
     count = draw.choice([0, 0, 1, 1, 2, 3])
     added = [start + at * (plain.lines + 1) for at in range(count)]
     known = [copy["address"] for copy in plain.copies] + added + [1, 3, 10 ** 6]
@@ -131,7 +131,7 @@ class ChestCase(unittest.TestCase):
         self.assertEqual([chest.lines, chest.today], [plain.lines, plain.day])
         self.assertEqual(chest.days(), list(range(plain.day + 1)))
         self.assertEqual(chest.stored(), [(copy["address"], copy["page"], copy["day"]) for copy in plain.copies])
-        self.assertEqual(chest.next_address(), plain.copies[-1]["address"] + plain.lines + 1)
+        self.assertEqual(chest.next_address(), plain.next)
         for page, copy in plain.live().items():
             self.assertEqual(chest.live(page), copy["address"])
             self.assertEqual(chest.blank_of(page), plain.lines - len(copy["lines"]))

@@ -19,6 +19,7 @@ LIBRARY = {
 CALLED = {
     "len", "range", "enumerate", "zip", "min", "max", "sum", "abs", "sorted", "reversed", "int", "str", "bool",
     "list", "tuple", "dict", "set", "isinstance", "ord", "repr", "any", "all", "divmod", "iter", "next", "super",
+    "TypeError",
 }
 
 BARRED_NODES = (
@@ -58,6 +59,21 @@ INTERFACE = {
     "stretches": {"Stretch": ["lift", "__add__", "__eq__", "is_keepable"], "parting": []},
     "chains": {
         "heights": [], "is_keepable_chain": [], "chain_answer": [], "attack_row": [], "count_chains": [],
+    },
+    "tables": {
+        "TableTree": ["__eq__", "parents", "own", "weights", "children", "things", "weight", "is_due", "is_keepable",
+                      "as_standing", "arrive"],
+    },
+    "divider": {
+        "Divider": ["tree", "take_arrival"],
+        "Crowd": ["tree", "has_won", "present_lot", "next_table", "take_division"],
+        "cut_of": [],
+    },
+    "views": {
+        "View": ["__getitem__", "__contains__", "__len__", "__iter__", "scan", "next_key", "trail", "shape"],
+    },
+    "store": {
+        "Store": ["resumed", "today", "standing", "days", "put_key", "drop_key", "get", "at", "changed", "history"],
     },
 }
 
@@ -197,6 +213,102 @@ class LanguageTest(unittest.TestCase):
         for name, _, tree in files():
             for node in nodes(tree, ast.Attribute):
                 self.assertNotEqual(node.attr, "sort", f"{name}:{node.lineno}")
+
+
+OPERATORS = {"__eq__", "__len__", "__contains__", "__getitem__", "__add__"}
+MODIFYING = {"append", "pop", "extend", "clear", "insert", "remove", "reverse", "setdefault", "update", "add", "discard"}
+
+
+def is_new(value):
+    """Whether the value is surely a new list, dict or set."""
+    if isinstance(value, ast.Call) and isinstance(value.func, ast.Name):
+        return value.func.id in {"list", "dict", "set", "sorted"}
+    if isinstance(value, ast.BinOp):
+        return is_new(value.left) or is_new(value.right)
+    return isinstance(value, (ast.List, ast.Dict, ast.ListComp, ast.DictComp))
+
+
+def base_name(node):
+    """The name in front of the indexes, or None."""
+    while isinstance(node, ast.Subscript):
+        node = node.value
+    return node.id if isinstance(node, ast.Name) else None
+
+
+class OperatorsTest(unittest.TestCase):
+    """What an operator or a property runs, followed by the names of the functions and methods, changes nothing."""
+
+    def setUp(self):
+        self.known, self.starts = {}, []
+        for name, _, tree in files():
+            for node in tree.body:
+                if isinstance(node, ast.FunctionDef):
+                    self.known.setdefault(node.name, []).append((name, node))
+                elif isinstance(node, ast.ClassDef):
+                    self.take_class(name, node)
+
+    def take_class(self, name, node):
+        for method in [row for row in node.body if isinstance(row, ast.FunctionDef)]:
+            words = {ast.unparse(one) for one in method.decorator_list}
+            if method.name == "__init__":
+                self.known.setdefault(node.name, []).append((name, method))
+            elif not any(word.endswith(".setter") for word in words):
+                self.known.setdefault(method.name, []).append((name, method))
+            if method.name in OPERATORS or "property" in words:
+                self.starts.append((name, method))
+
+    def test_they_change_nothing(self):
+        reached, waiting = [], list(self.starts)
+        while waiting:
+            name, function = waiting.pop()
+            if (name, function) not in reached:
+                reached.append((name, function))
+                self.check(name, function)
+                for node in nodes(function, ast.Call):
+                    word = node.func.id if isinstance(node.func, ast.Name) else getattr(node.func, "attr", None)
+                    waiting += self.known.get(word, [])
+        self.assertGreater(len(reached), 50)
+
+    def check(self, name, function):
+        assigned = {}
+        for node in nodes(function, ast.Assign):
+            for target in node.targets:
+                if isinstance(target, ast.Name):
+                    assigned.setdefault(target.id, []).append(is_new(node.value))
+        own = {word for word, values in assigned.items() if all(values)} - {one.arg for one in function.args.args}
+        for node in ast.walk(function):
+            where = f"{name}:{getattr(node, 'lineno', 0)} {function.name}"
+            self.assertNotIsInstance(node, (ast.Yield, ast.YieldFrom, ast.Nonlocal, ast.AugAssign), where)
+            if isinstance(node, ast.Attribute) and not isinstance(node.ctx, ast.Load):
+                # An operator may fill in an object that it has created itself.
+                self.assertIn(ast.unparse(node.value), ["self"] if function.name == "__init__" else ["joined"], where)
+            if isinstance(node, ast.Subscript) and not isinstance(node.ctx, ast.Load):
+                self.assertIn(base_name(node), own, where)
+            if isinstance(node, ast.Call) and isinstance(node.func, ast.Attribute) and node.func.attr in MODIFYING:
+                self.assertIn(base_name(node.func.value), own, where)
+
+    def test_indexed_classes(self):
+        for name, text, tree in files():
+            for word in ["(type)", "Meta", "metaclass="]:
+                self.assertNotIn(word, text, name)
+            words = [node.attr for node in nodes(tree, ast.Attribute) if isinstance(node.ctx, ast.Store)]
+            words += [node.name for node in nodes(tree, ast.FunctionDef)]
+            self.assertNotIn("keys", words, name)
+            for node in nodes(tree, ast.ClassDef):
+                methods = {row.name: row for row in node.body if isinstance(row, ast.FunctionDef)}
+                if "__getitem__" in methods:
+                    self.assertIsInstance(methods["__iter__"].body[-1], ast.Raise, name)
+
+    def test_generators(self):
+        found = {node.name for _, _, tree in files() for node in nodes(tree, ast.FunctionDef)
+                 if nodes(node, ast.Yield, ast.YieldFrom)}
+        self.assertEqual(found, {"_pairs_from", "scan"})
+        for name, _, tree in files():
+            heads = [node.iter for node in nodes(tree, ast.For, ast.comprehension)]
+            for node in nodes(tree, ast.Call):
+                if isinstance(node.func, ast.Attribute) and node.func.attr in found:
+                    self.assertIn(node, heads, f"{name}:{node.lineno}")
+                    self.assertTrue(all(isinstance(one, ast.Name) for one in node.args), f"{name}:{node.lineno}")
 
 
 class InterfaceTest(unittest.TestCase):
