@@ -75,6 +75,10 @@ INTERFACE = {
     "store": {
         "Store": ["resumed", "today", "standing", "days", "put_key", "drop_key", "get", "at", "changed", "history"],
     },
+    "holds": {"Holds": ["hold_day", "release_day", "count_of", "held", "sweep_copies"], "survey": []},
+    "recovery": {"mend": [], "recover_engine": [], "recover_store": []},
+    "audit": {"judge_log": [], "least_start": []},
+    "desk": {"Desk": ["run_line", "depth"]},
 }
 
 
