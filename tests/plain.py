@@ -104,11 +104,6 @@ class PlainStore:
         return table.page, parent.page, [left.page, right.page]
 
 
-def is_answer(lines, blank, pointers, page, answer):
-    """Whether a ledger may answer the update so (point 18). blank tells the blank lines by the pages."""
-    return answered(lines, blank, pointers, page, answer) is not None
-
-
 def answered(lines, blank, pointers, page, answer):
     """The blank lines after the update with this answer, by the pages, or None if no ledger answers so."""
     pages = sorted(blank)

@@ -7,6 +7,7 @@ from onecopy.chest import Chest
 from onecopy.engine import Engine
 from onecopy.errors import NoKey, Stopped
 from onecopy.holds import Holds
+from onecopy.keeper import copies_bound
 from onecopy.recovery import mend, recover_engine, recover_store
 from onecopy.store import Store
 from onecopy.webs import Web
@@ -193,7 +194,7 @@ class EnginesTest(RecoveryCase):
         draw = drawn(173)
         for web in self.webs():
             engine = Engine(web, greatest_degree(web), ["start"] * web.pages, entries_for(draw, web))
-            texts, readable, degree = [["start"] * web.pages], [0], greatest_degree(web)
+            texts, readable = [["start"] * web.pages], [0]
             for update in range(150):
                 disk, today = engine.chest.disk, engine.today
                 page, text = draw.randrange(web.pages), f"{update}"
@@ -214,7 +215,6 @@ class EnginesTest(RecoveryCase):
             for day in readable:
                 self.assertEqual([engine.read(page, day) for page in range(web.pages)], texts[day])
             self.assertEqual(engine.standing.blanks(), [engine.chest.blank_of(page) for page in range(web.pages)])
-            self.assertLessEqual(degree, engine.chest.lines)
 
     def recovered(self, draw, disk):
         """An engine behind mends that may be stopped themselves."""
@@ -239,19 +239,24 @@ class EnginesTest(RecoveryCase):
             engine = self.recovered(draw, disk)
         return engine, readable if allowed == 0 else sorted({*kept, engine.today})
 
-    def test_the_owners_keep_copies_few(self):
-        web = Web.path(6)
-        engine = Engine(web, 3, [""] * 6, [0])
-        for update in range(200):
-            engine.chest.disk.allow(update % 4)
-            try:
-                engine.write_page(5 - update % 3, str(update))
-            except Stopped:
+    def test_goes_on_as_a_keeper_that_begins_with_the_recovered_standing(self):
+        draw = drawn(176)
+        for web in self.webs():
+            for lines in [greatest_degree(web), greatest_degree(web) + 2]:
+                engine = Engine(web, lines, [""] * web.pages, entries_for(draw, web))
+                for update in range(30):
+                    engine.write_page(draw.randrange(web.pages), f"{update}")
+                engine.chest.disk.allow(1)
+                self.refused(Stopped, engine.write_page, 0, "stopped")
                 engine.chest.disk.allow(None)
                 engine = recover_engine(engine.chest.disk)
-        self.assertGreater(engine.today, 20)
-        # An engine goes on as a keeper that begins with the recovered standing.
-        self.assertEqual(engine.standing.lines, 3)
+                start, stored = engine.standing, len(engine.chest.stored())
+                for update in range(60):
+                    before, page = engine.standing, draw.randrange(web.pages)
+                    answer = engine.write_page(page, f"{update}")
+                    self.assertTrue(engine.standing == before.after(page, *answer))
+                    copies = len(engine.chest.stored()) - stored
+                    self.assertLessEqual(copies, copies_bound(start, update + 1))
 
 
 class StoresTest(RecoveryCase):
